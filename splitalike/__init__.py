@@ -1,0 +1,1 @@
+"""Two readers of one row agree where a message ends."""
