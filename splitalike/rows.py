@@ -87,6 +87,11 @@ class Row:
         return x in [cell for _, cell in self.runs]
 
 
+def row_of(row):
+    """The row that is handed in as a Row, or as a list or tuple of cells."""
+    return row if isinstance(row, Row) else Row(row)
+
+
 def _joined(pairs):
     """The runs of these pairs: none is empty, and neighbours have unlike cells."""
     runs = []

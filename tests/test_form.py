@@ -16,10 +16,36 @@ NoReader NothingToUndo BadBound NoRule""".split(),
     "readers": ["Reader"],
     "texts": ["written", "read_reader"],
     "rows": ["Row"],
+    "runs": ["Told", "run", "cuts", "parting_place"],
+    "desks": ["Desk"],
+    "parting": ["parted", "differing", "differing_place"],
+    "meeting": ["meets", "meets_beyond", "meeting", "meeting_beyond"],
 }
 METHODS = {
     "Reader": ["__init__", "__eq__", "names", "line_of", "exits", "reads", "replaced"],
     "Row": """__init__ of_runs size cell_at part cells __add__ __mul__ __contains__ __eq__""".split(),
+    "Told": ["__init__", "__eq__"],
+    "Desk": """__init__ feed feed_many feed_row fed told cuts_of parting undo redo""".split(),
+}
+# The parameters of the interface, besides self.
+PARAMETERS = {
+    "run": "reader row",
+    "cuts": "reader row",
+    "parting_place": "one other row",
+    "Desk": "readers",
+    "feed": "cell",
+    "feed_many": "count cell",
+    "feed_row": "row",
+    "told": "number",
+    "cuts_of": "number",
+    "parting": "one other",
+    "parted": "one other",
+    "differing": "one other",
+    "differing_place": "one other row",
+    "meets": "one other",
+    "meets_beyond": "one other",
+    "meeting": "one other name second",
+    "meeting_beyond": "one other name second",
 }
 
 
@@ -65,6 +91,19 @@ class Form(unittest.TestCase):
                 methods = [node.name for node in own[name].body if isinstance(node, ast.FunctionDef)]
                 for method in METHODS.get(name, []):
                     self.assertIn(method, methods)
+
+    def test_parameters_of_the_interface(self):
+        found = {}
+        for module in DEFINED:
+            for node in ast.walk(tree_of(FOLDER / (module + ".py"))):
+                if isinstance(node, ast.ClassDef):
+                    inits = [own for own in node.body if isinstance(own, ast.FunctionDef) and own.name == "__init__"]
+                    found.update({node.name: init.args for init in inits})
+                elif isinstance(node, ast.FunctionDef):
+                    found[node.name] = node.args
+        for name, words in PARAMETERS.items():
+            told = [argument.arg for argument in found[name].args if argument.arg != "self"]
+            self.assertEqual(told, words.split(), name)
 
 
 if __name__ == "__main__":
