@@ -2,10 +2,9 @@
 
 from splitalike.errors import NoReader, NothingToUndo, TooMany
 from splitalike.machines import Machine
+from splitalike.readers import MOST_READERS
 from splitalike.rows import Row, row_of
 from splitalike.runs import course_begun, course_over, cuts, parting_place, told_of
-
-MOST_READERS = 8
 
 
 class Desk:

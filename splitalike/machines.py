@@ -63,15 +63,20 @@ class Machine:
             kept = min(cell, line[1])
         return self.come(line[-1], kept)
 
+    def step(self, stand, cell, taken):
+        """The outcome behind one cell, if it is known how many cells are left."""
+        name, kept, left = stand
+        if left > 1:
+            return ((name, kept, left - 1), None)
+        return self.behind(stand, cell, taken)
+
     def after(self, stand, cell, taken):
         """All outcomes behind one cell: there are two where a skip may end or go on."""
-        name, kept, left = stand
+        name, _, left = stand
         if isinstance(left, str):
             return [(stand, None)]
         if isinstance(left, int):
-            if left > 1:
-                return [((name, kept, left - 1), None)]
-            return [self.behind(stand, cell, taken)]
+            return [self.step(stand, cell, taken)]
         least, step = left
         if least > 1:
             return [((name, None, (least - 1, step)), None)]

@@ -19,6 +19,7 @@ A state is (stand, stand, since), of the first and the second reader. Its last e
 from math import lcm
 
 from splitalike.machines import Machine
+from splitalike.readers import PASSING
 
 # With a blank, as no name of a line has: these words stand beside names.
 SHARED = "shared number"
@@ -41,7 +42,7 @@ class Pair:
     def __init__(self, one, other):
         self.machines = (Machine(one), Machine(other))
         self.great = _least_great([*one.lines, *other.lines])
-        self._needed = tuple([(_needed(reader, False), _needed(reader, True)) for reader in (one, other)])
+        self._needed = tuple([(_needed(lines, False), _needed(lines, True)) for lines in (one.lines, other.lines)])
         self._known = ({}, {})
         self._alone = ({}, {})
 
@@ -87,7 +88,7 @@ class Pair:
     def _cells(self, lines):
         """The cells that are worth trying, each with what a take keeps of it."""
         words = [line[0] for line in lines]
-        if all([word in ("jump", "skip") for word in words]):
+        if all([word in PASSING for word in words]):
             return [(0, 0)]
         cells = [(cell, cell) for cell in range(self.great)]
         if words == ["take", "take"]:
@@ -222,12 +223,12 @@ def _least_great(lines):
     return max(numbers) + 1
 
 
-def _needed(reader, great):
+def _needed(lines, great):
     """For each line, whether it or one that can follow asks for a number, a great one if so, that is kept at it."""
-    needed = {name: False for name in reader.names()}
+    needed = {name: False for name, _ in lines}
     # Each round looks one line further.
     for _ in range(len(needed)):
-        for name, line in reader.lines:
+        for name, line in lines:
             needed[name] = _asks(line, needed, great)
     return needed
 

@@ -1,8 +1,7 @@
 """Whether two readers are alike, or the same, on all rows; and rows on which they are not."""
 
-from splitalike.errors import TooGreat
 from splitalike.questions import DIFFER, PART, Question
-from splitalike.rows import MOST_CELLS, row_of
+from splitalike.rows import short_row_of
 from splitalike.runs import first_unlike
 from splitalike.searches import Search
 
@@ -19,9 +18,6 @@ def differing(one, other):
 
 def differing_place(one, other, row):
     """The first place of a row at which two readers differ, or None."""
-    whole = row_of(row)
-    if whole.size > MOST_CELLS:
-        raise TooGreat()
-    place, events = first_unlike(one, other, whole)
+    place, events = first_unlike(one, other, short_row_of(row))
     # Where both refuse, nothing more is compared.
     return place if events and events[0] != events[1] else None

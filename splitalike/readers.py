@@ -3,6 +3,8 @@
 from splitalike.errors import BadBegin, BadReader, BadRing, NoLine, TooMany
 
 MOST_LINES = 8
+# How many readers are handed in at once, at the most.
+MOST_READERS = 8
 MOST_LETTERS = 12
 LETTERS = "abcdefghijklmnopqrstuvwxyz"
 
@@ -32,6 +34,8 @@ BOUNDS = {
 VALUES = (0, 5)
 
 READING = ("case", "take", "rest", "cap", "jump")
+# The lines that go over cells without looking at them.
+PASSING = ("jump", "skip")
 NEVER_FIRST = ("cut", "skip", "refuse")
 
 

@@ -92,6 +92,14 @@ def row_of(row):
     return row if isinstance(row, Row) else Row(row)
 
 
+def short_row_of(row):
+    """The same, of a row that may have no more than so many cells."""
+    whole = row_of(row)
+    if whole.size > MOST_CELLS:
+        raise TooGreat()
+    return whole
+
+
 def _joined(pairs):
     """The runs of these pairs: none is empty, and neighbours have unlike cells."""
     runs = []

@@ -1,8 +1,7 @@
 """Runs of readers on rows, also on rows of runs with very large counts."""
 
-from splitalike.errors import TooGreat
 from splitalike.machines import CUT, REFUSE, Machine
-from splitalike.rows import MOST_CELLS, row_of
+from splitalike.rows import row_of, short_row_of
 
 
 class Told:
@@ -30,22 +29,8 @@ def run(reader, row):
 
 def cuts(reader, row):
     """The places of all cuts, ascending."""
-    whole = row_of(row)
-    if whole.size > MOST_CELLS:
-        raise TooGreat()
-    machine = Machine(reader)
-    found = []
-    stand = machine.begin
-    end = 0
-    for count, cell in whole.runs:
-        place = end
-        end = end + count
-        while place < end and stand is not None:
-            passed, (stand, event) = machine.ahead(stand, cell, end - place)
-            place = place + passed
-            if event == CUT:
-                found.append(place)
-    return found
+    whole = short_row_of(row)
+    return shown(Machine(reader), whole)[0]
 
 
 def parting_place(one, other, row):
@@ -74,6 +59,24 @@ def first_unlike(one, other, row):
             times = (end - place) // passed if begun and CUT in events else 1
             place = place + times * passed
     return (None, ())
+
+
+def shown(machine, row):
+    """(places of all cuts, place of the refusal or None): what a reader shows on a row."""
+    found = []
+    stand = machine.begin
+    end = 0
+    for count, cell in row.runs:
+        place = end
+        end = end + count
+        while place < end:
+            passed, (stand, event) = machine.ahead(stand, cell, end - place)
+            place = place + passed
+            if event == REFUSE:
+                return (found, place)
+            if event == CUT:
+                found.append(place)
+    return (found, None)
 
 
 def course_begun(machine):

@@ -69,10 +69,38 @@ class Plain:
     def idle(self, stand):
         return self.lines[stand[0]][0] in ("jump", "skip")
 
+    def rule(self, stand, cell):
+        """The rule that is used with this cell, or None."""
+        name, _, left = stand
+        word, *rest = self.lines[name]
+        if word == "skip" or (word == "jump" and left < rest[0]):
+            return None
+        if word != "case":
+            return (name, 0)
+        values = [value for value, _ in rest[0]]
+        return (name, values.index(cell) if cell in values else len(values))
+
+
+class PlainTurned(Plain):
+    """A reader with some of its rules turned."""
+
+    def __init__(self, reader, rules):
+        super().__init__(reader)
+        self.turned = rules
+
+    def stepped(self, stand, cell):
+        if self.rule(stand, cell) in self.turned:
+            return None, "refuse"
+        return super().stepped(stand, cell)
+
+
+def plain_of(reader):
+    return reader if isinstance(reader, Plain) else Plain(reader)
+
 
 def stands(reader, cells):
     """(stand, event) at all places, from place 0 on; behind a refusal (None, None)."""
-    plain = Plain(reader)
+    plain = plain_of(reader)
     found = [(plain.begin, None)]
     for cell in cells:
         stand = found[-1][0]
@@ -93,6 +121,23 @@ def told(reader, cells):
     inside = (len(cells) if refused is None else refused) - (last or 0)
     line, kept, left = stands(reader, cells)[-1][0] or (None, None, 0)
     return (len(cut), last, refused, inside, line, kept, left)
+
+
+def shown(reader, cells):
+    """The places of the cuts, a tuple, and the place of the refusal or None."""
+    all_events = events(reader, cells)
+    cut = [place for place, event in enumerate(all_events) if event == "cut"]
+    return (tuple(cut), all_events.index("refuse") if "refuse" in all_events else None)
+
+
+def rules_used(reader, cells):
+    """All rules that a run uses, as a set."""
+    plain = plain_of(reader)
+    found = set()
+    for (stand, _), cell in zip(stands(plain, cells), cells):
+        if stand is not None:
+            found.add(plain.rule(stand, cell))
+    return found - {None}
 
 
 def first_place(one, other, cells, asked):
@@ -118,12 +163,14 @@ def searched(one, other, asked, most, longest):
 
     `asked` is "part", "differ", "meet" or "meet beyond"; what is found are this word, or pairs of names.
     """
-    plains = (Plain(one), Plain(other))
+    plains = (plain_of(one), plain_of(other))
     layer = [(plains[0].begin, plains[1].begin)]
     seen = set(layer)
     found = {}
     for length in range(1, longest + 1):
         further = []
+        if not layer:
+            break
         for left, right in layer:
             if asked.startswith("meet"):
                 found.setdefault((left[0], right[0]), length)

@@ -20,6 +20,10 @@ NoReader NothingToUndo BadBound NoRule""".split(),
     "desks": ["Desk"],
     "parting": ["parted", "differing", "differing_place"],
     "meeting": ["meets", "meets_beyond", "meeting", "meeting_beyond"],
+    "bounded": ["parted_within"],
+    "hardening": ["rules_of", "used", "shows_turned", "makes_safe", "least_sets"],
+    "families": ["families"],
+    "telling": ["told_apart", "least_rows"],
 }
 METHODS = {
     "Reader": ["__init__", "__eq__", "names", "line_of", "exits", "reads", "replaced"],
@@ -46,6 +50,15 @@ PARAMETERS = {
     "meets_beyond": "one other",
     "meeting": "one other name second",
     "meeting_beyond": "one other name second",
+    "parted_within": "one other bound",
+    "rules_of": "reader",
+    "used": "reader row",
+    "shows_turned": "reader rules row",
+    "makes_safe": "reader rules others",
+    "least_sets": "reader others",
+    "families": "readers",
+    "told_apart": "readers rows",
+    "least_rows": "readers rows",
 }
 
 
